@@ -1,0 +1,1 @@
+"""Names of a notebook's cell: made, read, bound, renamed."""

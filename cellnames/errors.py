@@ -1,0 +1,5 @@
+"""The error that stops the reading of a text."""
+
+
+class NotGood(Exception):
+    pass

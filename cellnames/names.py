@@ -1,0 +1,30 @@
+"""The calls: each takes a cell's text and answers a list of whole numbers."""
+
+from cellnames.cells import good_cell, sound_cell
+from cellnames.scopes import OUTERMOST_BLOCK
+
+
+def faults(text):
+    cell = good_cell(text)
+    if cell.refusal < 0:
+        return [cell.refusal]
+    answer = [len(cell.pairs)]
+    for pair in cell.pairs:
+        answer.extend(pair)
+    return answer
+
+
+def made(text):
+    cell = sound_cell(text)
+    if cell.refusal < 0:
+        return [cell.refusal]
+    places = [place for place in cell.walk.places if place.home == OUTERMOST_BLOCK]
+    answer = [len(places)]
+    for place in places:
+        answer.extend([place.kind, place.statement])
+        answer.extend(told_name(place.name))
+    return answer
+
+
+def told_name(name):
+    return [len(name)] + list(name)

@@ -1,0 +1,154 @@
+"""The binding places and the uses of a program, and what each use is bound to."""
+
+LET = 0
+SLIDER = 1
+CHOICE = 2
+FOR = 3
+OWN_NAME = 4
+PARAMETER = 5
+
+MAKING = {"let": 0, "slider": 1, "choice": 2}
+
+OUTERMOST_BLOCK = 0
+FREE = -1
+
+
+# home: the number of the block in which it holds. It is the outermost block for outermost
+#   lets, sliders and choices alone, as the other places hold in a block of their own statement.
+# statement: the number of the outermost statement in which it stands.
+# used: how many uses are bound to it.
+class BindingPlace:
+    def __init__(self, kind, name, level, home, statement):
+        self.kind = kind
+        self.name = name
+        self.level = level
+        self.home = home
+        self.statement = statement
+        self.used = 0
+
+
+# bound: the number of the binding place that it's bound to, or FREE.
+# of_set: 1 if it's the name of a set, else 0.
+class Use:
+    def __init__(self, bound, of_set, level, name, statement):
+        self.bound = bound
+        self.of_set = of_set
+        self.level = level
+        self.name = name
+        self.statement = statement
+
+
+# A statement or an expression, with where it stands.
+class Visit:
+    def __init__(self, node, level, statement):
+        self.node = node
+        self.level = level
+        self.statement = statement
+
+
+# places, uses, visits: what was met, in the order of the text.
+# holding: the numbers of the binding places that hold here, the last begun at the end.
+class Walk:
+    def __init__(self):
+        self.places = []
+        self.uses = []
+        self.visits = []
+        self.holding = []
+        self.blocks_met = 1
+        self.level = 0
+        self.statement = 0
+
+
+# Calls stand within one another no deeper than the tree, which is at most 40 deep.
+def walk_program(statements):
+    walk = Walk()
+    for number, node in enumerate(statements):
+        walk.statement = number
+        walk_node(walk, node, OUTERMOST_BLOCK)
+    return walk
+
+
+# home is the number of the block in which the node stands.
+def walk_node(walk, node, home):
+    walk.visits.append(Visit(node, walk.level, walk.statement))
+    if node.kind in MAKING:
+        walk_making(walk, node, home)
+    elif node.kind == "for":
+        walk_for(walk, node, home)
+    elif node.kind == "fn":
+        walk_function(walk, node)
+    else:
+        walk_other(walk, node, home)
+
+
+def walk_making(walk, node, home):
+    number = add_place(walk, MAKING[node.kind], node.name, home)
+    walk_parts(walk, node, home)
+    walk.holding.append(number)
+
+
+def walk_for(walk, node, home):
+    block = new_block(walk)
+    number = add_place(walk, FOR, node.name, block)
+    walk_parts(walk, node, home)
+    walk_block(walk, node.blocks[0], block, [number])
+
+
+def walk_function(walk, node):
+    block = new_block(walk)
+    walk.level += 1
+    numbers = []
+    if node.name is not None:
+        numbers.append(add_place(walk, OWN_NAME, node.name, block))
+    for name in node.names:
+        numbers.append(add_place(walk, PARAMETER, name, block))
+    walk_block(walk, node.blocks[0], block, numbers)
+    walk.level -= 1
+
+
+def walk_other(walk, node, home):
+    if node.kind in ("name", "set"):
+        add_use(walk, node)
+    walk_parts(walk, node, home)
+    for statements in node.blocks:
+        walk_block(walk, statements, new_block(walk), [])
+
+
+def walk_parts(walk, node, home):
+    for part in node.parts:
+        walk_node(walk, part, home)
+
+
+# numbers are those of the binding places whose hold begins with the block.
+def walk_block(walk, statements, block, numbers):
+    held_before = len(walk.holding)
+    walk.holding.extend(numbers)
+    for node in statements:
+        walk_node(walk, node, block)
+    walk.holding = walk.holding[:held_before]
+
+
+def new_block(walk):
+    walk.blocks_met += 1
+    return walk.blocks_met - 1
+
+
+def add_place(walk, kind, name, home):
+    walk.places.append(BindingPlace(kind, name, walk.level, home, walk.statement))
+    return len(walk.places) - 1
+
+
+def add_use(walk, node):
+    bound = nearest(walk, node.name)
+    if bound != FREE:
+        place = walk.places[bound]
+        place.used += 1
+    of_set = 1 if node.kind == "set" else 0
+    walk.uses.append(Use(bound, of_set, walk.level, node.name, walk.statement))
+
+
+def nearest(walk, name):
+    for number in reversed(walk.holding):
+        if walk.places[number].name == name:
+            return number
+    return FREE

@@ -1,0 +1,88 @@
+"""What the tests share: texts made of Python's, and calls that are watched while they run."""
+
+from cellnames import names
+
+TOO_LONG = [-1]
+NOT_GOOD = [-2]
+NOT_SOUND = [-3]
+
+
+def as_bytes(source):
+    """The bytes of a Python text, each sign one byte."""
+    return list(source.encode("latin-1"))
+
+
+def told(source):
+    """A name or a form as an answer tells it: how many bytes, then they."""
+    return [len(source)] + as_bytes(source)
+
+
+def listed(*sources):
+    """A list of names as an answer tells it."""
+    answer = [len(sources)]
+    for source in sources:
+        answer.extend(told(source))
+    return answer
+
+
+class Untouchable(list):
+    """A list that fails at once when somebody changes it, for a while only too."""
+
+    def refuse(self, *args, **kwargs):
+        raise AssertionError("what was handed in is being changed")
+
+    append = clear = extend = insert = pop = remove = reverse = sort = refuse
+    __setitem__ = __delitem__ = __iadd__ = __imul__ = refuse
+
+
+def answer(call, *handed):
+    """The call's answer, once it is certain that it was given as the interface asks for."""
+    plain = [as_bytes(one) if isinstance(one, str) else one for one in handed]
+    watched = [Untouchable(one) if isinstance(one, list) else one for one in plain]
+    copies = [list(one) if isinstance(one, list) else one for one in plain]
+    first = call(*plain)
+    if plain != copies:
+        raise AssertionError("what was handed in has been changed")
+    if type(first) is not list or any(type(number) is not int for number in first):
+        raise AssertionError(f"not a list of whole numbers: {first!r}")
+    kept = list(first)
+    first.append(77)
+    if call(*watched) != kept or call(*copies) != kept:
+        raise AssertionError("the second answer differs from the first")
+    return kept
+
+
+def faults(source):
+    return answer(names.faults, source)
+
+
+def made(source):
+    return answer(names.made, source)
+
+
+def pairs(source):
+    """The pairs that faults answers, as tuples."""
+    numbers = faults(source)
+    if len(numbers) != 1 + 2 * numbers[0]:
+        raise AssertionError(f"not as many pairs as are told: {numbers!r}")
+    return list(zip(numbers[1::2], numbers[2::2]))
+
+
+def is_good(source):
+    """Whether the text is good, asked from each call: each must be of the same mind."""
+    found = faults(source)
+    if found == NOT_GOOD:
+        if made(source) != NOT_GOOD:
+            raise AssertionError("made takes a text that faults doesn't")
+        return False
+    if found[0] < 0:
+        raise AssertionError(f"refused by {found!r}")
+    sound = found == [0]
+    if (made(source) == NOT_SOUND) == sound or made(source) == NOT_GOOD:
+        raise AssertionError("made and faults aren't of the same mind")
+    return True
+
+
+def padded(source, size):
+    """The same program in so many bytes: blanks stand behind it."""
+    return source + " " * (size - len(source))

@@ -1,0 +1,464 @@
+"""The calls against a slow model that takes the document's words one by one.
+
+The model cuts tokens by patterns, reads the grammar from the document's own lines, tries all
+ways to read a text, and asks of each binding place from which token to which it holds.
+"""
+
+import re
+import sys
+import unittest
+
+from helper import as_bytes
+
+from cellnames import names
+
+GRAMMAR = """
+    PROGRAM  = STATEMENT*
+    BLOCK    = "{" STATEMENT* "}"
+    STATEMENT = "let" NAME "=" E ";"  |  "set" NAME "=" E ";"
+             | "show" E ";" | "table" E ";" | "plot" E ";" | "check" E ";"
+             | "do" E ";" | "give" E ";"
+             | "if" E BLOCK ("else" BLOCK)?
+             | "while" E BLOCK
+             | "for" NAME "in" E BLOCK
+             | "slider" NAME "=" WHOLE "in" WHOLE "," WHOLE ";"
+             | "choice" NAME "=" NUMBER "in" QUOTED ("," QUOTED)* ";"
+    WHOLE    = "-"? NUMBER
+    E        = OR ("?" OR ":" OR)?
+    OR       = AND ("or" AND)*
+    AND      = NOT ("and" NOT)*
+    NOT      = "not"? COMPARED
+    COMPARED = JOINED (("==" | "!=" | "<" | "<=" | ">" | ">=") JOINED)?
+    JOINED   = SUM ("++" SUM)*
+    SUM      = PRODUCT (("+" | "-") PRODUCT)*
+    PRODUCT  = SIGNED (("*" | "/" | "%") SIGNED)*
+    SIGNED   = "-"? REACHED
+    REACHED  = SIMPLE ( "(" LISTED ")" | "[" E "]" | "." NAME )*
+    LISTED   = ( E ("," E)* )?
+    SIMPLE   = NUMBER | QUOTED | "yes" | "no" | "none" | NAME
+             | "[" LISTED "]"
+             | "(" ":" ")"
+             | "(" NAME ":" E ("," NAME ":" E)* ")"
+             | "(" E ")"
+             | "fn" NAME? "(" ( NAME ("," NAME)* )? ")" BLOCK
+             | ("len" | "keys" | "text" | "num" | "roll") "(" E ")"
+             | ("cut" | "with") "(" E "," E "," E ")"
+"""
+
+RESERVED = (
+    "let set show table plot check slider choice if else while for in do give fn and or not "
+    "yes no none len keys text num roll cut with"
+).split()
+
+TOKEN = re.compile(
+    r'(?P<pass>[\n ]+|#[^\n]*)|(?P<word>[A-Za-z_][A-Za-z0-9_]*)|(?P<number>[0-9]+)'
+    r'|(?P<quoted>"(?:\\[\\"n]|[^\n"\\])*")|(?P<sign>==|!=|<=|>=|\+\+|[-+*/%<>=()\[\]{},;:.?])'
+)
+
+
+# ---- the grammar's lines, read into nested tuples
+
+def read_grammar():
+    lines = {}
+    for name, body in re.findall(r"(\w+)\s+= (.*?)(?=\n\s+[A-Z]+\s+= |\Z)", GRAMMAR, re.S):
+        pieces = re.findall(r'"[^"]+"|[A-Z]+|[()|?*]', body)
+        rule, rest = read_either(pieces)
+        if rest:
+            raise AssertionError(rest)
+        lines[name] = rule
+    return lines
+
+
+def read_either(pieces):
+    ways = []
+    while True:
+        row = []
+        while pieces and pieces[0] not in ("|", ")"):
+            one, pieces = read_piece(pieces)
+            row.append(one)
+        ways.append(("row", row))
+        if not pieces or pieces[0] == ")":
+            return ("either", ways), pieces
+        pieces = pieces[1:]
+
+
+def read_piece(pieces):
+    if pieces[0] == "(":
+        one, pieces = read_either(pieces[1:])
+    elif pieces[0].startswith('"'):
+        one = ("token", pieces[0][1:-1])
+    else:
+        one = ("line", pieces[0])
+    pieces = pieces[1:]
+    if pieces and pieces[0] in ("?", "*"):
+        one = (pieces[0], one)
+        pieces = pieces[1:]
+    return one, pieces
+
+
+LINES = read_grammar()
+
+
+# ---- the model
+
+class NotGood(Exception):
+    pass
+
+
+def cut(source):
+    tokens = []
+    place = 0
+    while place < len(source):
+        found = TOKEN.match(source, place)
+        if not found:
+            raise NotGood
+        place = found.end()
+        kind, token = found.lastgroup, found.group()
+        if kind == "word" and len(token) > 16 or kind == "number" and not re.fullmatch("0|[1-9][0-9]{0,29}", token):
+            raise NotGood
+        if kind == "word":
+            kind = "sign" if token in RESERVED else "NAME"
+        if kind != "pass":
+            tokens.append((kind.upper(), token))
+    return tokens
+
+
+class Piece:
+    """What a line of the grammar read, from token start to before token end."""
+
+    def __init__(self, line, start, end, inner):
+        self.line, self.start, self.end, self.inner = line, start, end, inner
+
+
+class Readings:
+    """All ways to read: from each place and piece of a rule, the ends and what was read."""
+
+    def __init__(self, tokens):
+        self.tokens = tokens
+        self.known = {}
+
+    def of(self, rule, start):
+        key = (id(rule), start) if rule[0] != "line" else (rule[1], start)
+        if key not in self.known:
+            self.known[key] = self.found(rule, start)
+        return self.known[key]
+
+    def found(self, rule, start):
+        kind, what = rule
+        if kind == "token" or kind == "line" and what in ("NAME", "NUMBER", "QUOTED"):
+            wanted = ("SIGN", what) if kind == "token" else None
+            here = self.tokens[start] if start < len(self.tokens) else ("END", "")
+            return {start + 1: []} if here == wanted or (wanted is None and here[0] == what) else {}
+        if kind == "line":
+            return {end: [Piece(what, start, end, inner)] for end, inner in self.of(LINES[what], start).items()}
+        if kind == "either":
+            ends = {}
+            for way in what:
+                for end, inner in self.of(way, start).items():
+                    if end in ends:
+                        raise AssertionError("read in two ways")
+                    ends[end] = inner
+            return ends
+        if kind == "row":
+            ends = {start: []}
+            for one in what:
+                ends = {last: inner + more for end, inner in ends.items() for last, more in self.of(one, end).items()}
+            return ends
+        ends = {start: []}
+        newest = dict(ends)
+        while newest:
+            newest = {last: inner + more for end, inner in newest.items() for last, more in self.of(what, end).items()}
+            ends.update(newest)
+            if kind == "?":
+                break
+        return ends
+
+
+EXPRESSION_LINES = ("E", "OR", "AND", "NOT", "COMPARED", "JOINED", "SUM", "PRODUCT", "SIGNED", "REACHED", "SIMPLE")
+
+
+class Model:
+    def __init__(self, source):
+        self.tokens = cut(source)
+        balance = 0
+        for kind, token in self.tokens:
+            if kind == "SIGN" and token in "([{":
+                balance += 1
+                if balance >= 25:
+                    raise NotGood
+            elif kind == "SIGN" and token in ")]}":
+                balance -= 1
+        whole = Readings(self.tokens).of(("line", "PROGRAM"), 0)
+        if len(self.tokens) not in whole:
+            raise NotGood
+        self.program = whole[len(self.tokens)][0]
+        if max([self.depth(one) for one in self.program.inner], default=0) > 40:
+            raise NotGood
+        self.pieces = list(self.all_pieces(self.program))
+        self.functions = [one for one in self.pieces if self.first(one) == "fn" and one.line == "SIMPLE"]
+        self.blocks = [one for one in self.pieces if one.line in ("BLOCK", "PROGRAM")]
+        self.find_places()
+        self.find_uses()
+
+    def first(self, piece):
+        return self.tokens[piece.start][1] if self.tokens[piece.start:] and self.tokens[piece.start][0] == "SIGN" else ""
+
+    def token(self, place):
+        return self.tokens[place][1]
+
+    def all_pieces(self, piece):
+        yield piece
+        for one in piece.inner:
+            yield from self.all_pieces(one)
+
+    def depth(self, piece):
+        inner = [self.depth(one) for one in piece.inner if one.line != "WHOLE"]
+        if piece.line == "REACHED":
+            return self.depth_reached(piece)
+        if piece.line in ("OR", "AND", "JOINED", "SUM", "PRODUCT"):
+            deep = inner[0]
+            for one in inner[1:]:
+                deep = 1 + max(deep, one)
+            return deep
+        if piece.line in ("LISTED", "BLOCK"):
+            return max(inner, default=0)
+        if piece.line == "SIMPLE" and len(inner) == 1 and self.first(piece) == "(" and self.token(piece.start + 2) != ":":
+            return inner[0]
+        if piece.line in ("E", "COMPARED") and len(inner) == 1:
+            return inner[0]
+        if piece.line in ("NOT", "SIGNED") and piece.inner[0].start == piece.start:
+            return inner[0]
+        return 1 + max(inner, default=0)
+
+    def depth_reached(self, piece):
+        inner = {one.start: one for one in piece.inner}
+        deep = self.depth(piece.inner[0])
+        place = piece.inner[0].end
+        while place < piece.end:
+            if self.token(place) == ".":
+                deep += 1
+                place += 2
+            else:
+                one = inner[place + 1]
+                deep = 1 + max(deep, self.depth(one))
+                place = one.end + 1
+        return deep
+
+    def level(self, place):
+        return sum(1 for one in self.functions if one.start < place < one.end)
+
+    def block_around(self, place):
+        return max((one for one in self.blocks if one.start <= place < one.end), key=lambda one: (one.start, one.line))
+
+    def statement(self, place):
+        return sum(1 for one in self.program.inner if one.end <= place)
+
+    def find_places(self):
+        """Tuples: token, kind, (hold's beginning, rank), hold's end, piece, outermost."""
+        self.places = []
+        for piece in self.pieces:
+            first = self.first(piece)
+            if piece.line == "STATEMENT" and first in ("let", "slider", "choice"):
+                block = self.block_around(piece.start)
+                kind = ("let", "slider", "choice").index(first)
+                outermost = 1 if block is self.program else 0
+                self.places.append((piece.start + 1, kind, (piece.end, 0), block.end, block, outermost))
+            if piece.line == "STATEMENT" and first == "for":
+                block = piece.inner[-1]
+                self.places.append((piece.start + 1, 3, (block.start, 0), block.end, block, 0))
+            if piece in self.functions:
+                block = piece.inner[-1]
+                for place in range(piece.start + 1, block.start):
+                    if self.tokens[place][0] == "NAME":
+                        kind = 4 if place == piece.start + 1 else 5
+                        self.places.append((place, kind, (block.start, place), block.end, block, 0))
+        self.places.sort(key=lambda one: one[0])
+
+    def find_uses(self):
+        """Tuples: token, the number of the binding place or -1, 1 for a set's name."""
+        self.uses = []
+        for piece in self.pieces:
+            if piece.line == "SIMPLE" and piece.end == piece.start + 1 and self.tokens[piece.start][0] == "NAME":
+                self.uses.append((piece.start, self.bound(piece.start), 0))
+            if piece.line == "STATEMENT" and self.first(piece) == "set":
+                self.uses.append((piece.start + 1, self.bound(piece.start + 1), 1))
+        self.uses.sort()
+
+    def bound(self, use):
+        holding = [
+            (begin, number) for number, (place, kind, begin, end, block, outermost) in enumerate(self.places)
+            if self.token(place) == self.token(use) and begin[0] <= use < end
+        ]
+        return max(holding)[1] if holding else -1
+
+    def faults(self):
+        found = set()
+        for number, (place, kind, begin, end, block, outermost) in enumerate(self.places):
+            for earlier in self.places[:number]:
+                if self.token(earlier[0]) == self.token(place) and earlier[4] is block:
+                    if kind < 3 and earlier[1] < 3:
+                        found.add((self.statement(place), 1))
+                    if kind == earlier[1] == 5:
+                        found.add((self.statement(place), 2))
+            if kind in (1, 2) and not outermost:
+                found.add((self.statement(place), 6))
+        for use, bound, of_set in self.uses:
+            if of_set and (
+                bound == -1 or self.places[bound][1] in (1, 2, 4)
+                or self.level(self.places[bound][0]) != self.level(use)
+            ):
+                found.add((self.statement(use), 4))
+        for piece in self.pieces:
+            kind = self.fault_by_itself(piece)
+            if kind:
+                found.add((self.statement(piece.start), kind))
+        return sorted(found)
+
+    def fault_by_itself(self, piece):
+        first = self.first(piece)
+        if piece.line == "SIMPLE" and first == "(" and self.token(piece.start + 2) == ":":
+            fields = [self.token(one.start - 2) for one in piece.inner]
+            return 3 if len(set(fields)) < len(fields) else 0
+        if piece.line == "STATEMENT" and first == "give" and self.level(piece.start) == 0:
+            return 5
+        if piece.line == "STATEMENT" and first == "slider":
+            numbers = [int("".join(self.token(place) for place in range(one.start, one.end))) for one in piece.inner]
+            return 7 if numbers[0] < numbers[1] or numbers[0] > numbers[2] else 0
+        if piece.line == "STATEMENT" and first == "choice":
+            texts = sum(1 for place in range(piece.start, piece.end) if self.tokens[place][0] == "QUOTED")
+            return 8 if not int(self.token(piece.start + 3)) < texts else 0
+        return 0
+
+
+def told(name):
+    return [len(name)] + as_bytes(name)
+
+
+def model_of(source):
+    """The model calls itself deeply; the calls under test have to do with what Python allows."""
+    limit = sys.getrecursionlimit()
+    sys.setrecursionlimit(20000)
+    try:
+        return Model(source)
+    finally:
+        sys.setrecursionlimit(limit)
+
+
+def model_answers(source):
+    """What the model answers: of faults, then of the other calls by name."""
+    try:
+        model = model_of(source)
+    except NotGood:
+        return {"faults": [-2], "made": [-2]}
+    found = model.faults()
+    faults = [len(found)] + [number for pair in found for number in pair]
+    if found:
+        return {"faults": faults, "made": [-3]}
+    made = [one for one in model.places if one[5]]
+    made_answer = [len(made)]
+    for place, kind, *others in made:
+        made_answer += [kind, model.statement(place)] + told(model.token(place))
+    return {"faults": faults, "made": made_answer}
+
+
+# ---- texts to ask about
+
+class Dice:
+    """The same numbers in each run."""
+
+    def __init__(self, seed):
+        self.state = seed * 7919 + 1
+
+    def below(self, limit):
+        self.state = (self.state * 6364136223846793005 + 1442695040888963407) % 2 ** 64
+        return (self.state >> 33) % limit
+
+    def one_of(self, things):
+        return things[self.below(len(things))]
+
+
+SEEDS = 600
+
+
+def grown(dice, rule, room):
+    """Tokens that the rule reads, fewer ways being open when room runs out."""
+    kind, what = rule
+    if kind == "token":
+        return [what]
+    if kind == "line" and what in ("NAME", "NUMBER", "QUOTED"):
+        return [dice.one_of({"NAME": ["a", "b", "c"], "NUMBER": ["0", "1", "2"], "QUOTED": ['""', '"a\\n"']}[what])]
+    if kind == "line":
+        if what == "SIMPLE":
+            return grown(dice, simple_way(dice, LINES[what][1], room), room)
+        return grown(dice, LINES[what], room - 1 if what in ("E", "STATEMENT") else room)
+    if kind == "either":
+        return grown(dice, dice.one_of(what), room)
+    if kind == "row":
+        return [token for one in what for token in grown(dice, one, room)]
+    return [token for time in range(repeats(dice, kind, what, room)) for token in grown(dice, what, room - 1)]
+
+
+def simple_way(dice, ways, room):
+    """Most often a name; if there's room, often a function."""
+    name, function = ways[5], ways[10]
+    if room <= 0 or dice.below(2):
+        return name if dice.below(4) else ways[dice.below(6)]
+    return function if dice.below(2) else dice.one_of(ways)
+
+
+def repeats(dice, kind, what, room):
+    """How often; statements, names and what stands behind commas more often than signs."""
+    if kind == "*" and what == ("line", "STATEMENT"):
+        return dice.below(4) if room > 0 else 0
+    inner = what[1][0][1][0] if what[0] == "either" else what
+    if inner not in (("line", "NAME"), ("line", "E"), ("token", ","), ("token", "else")):
+        return 1 if dice.below(8) == 0 else 0
+    return dice.below(2 if kind == "?" else 3) if room > -2 else 0
+
+
+def joined(dice, tokens):
+    gaps = (" ", " ", " ", "\n", "  ", " # x\n", "#\n")
+    return "".join(token + dice.one_of(gaps) for token in tokens)
+
+
+def grown_program(dice, most_statements):
+    statements = 1 + dice.below(most_statements)
+    return joined(dice, [token for time in range(statements) for token in grown(dice, ("line", "STATEMENT"), 4)])
+
+
+def mutated(dice, source):
+    """The text with one to three bytes, or one token, changed, taken out or put in."""
+    for time in range(1 + dice.below(3)):
+        place = dice.below(len(source) + 1)
+        put = dice.one_of(list('abc019"\\#!=+-<>()[]{},;:.?\n $') + ["let ", "set ", " in ", "fn", "not ", " or "])
+        source = source[:place] + ("" if dice.below(3) == 0 else put) + source[place + dice.below(2):]
+    return source
+
+
+class AgainstTheModel(unittest.TestCase):
+    def compare(self, source):
+        expected = model_answers(source)
+        for name, answer in expected.items():
+            self.assertEqual(getattr(names, name)(as_bytes(source)), answer, (name, source))
+        return expected["faults"]
+
+    def test_programs_grown_from_the_grammar(self):
+        seen = {}
+        for seed in range(SEEDS):
+            source = grown_program(Dice(seed), 4)
+            found = self.compare(source) if len(source) <= 600 else []
+            for kind in found[2::2] or found:
+                seen[kind] = seen.get(kind, 0) + 1
+        self.assertEqual([kind for kind in range(9) if seen.get(kind, 0) < SEEDS // 60], [], seen)
+
+    def test_programs_with_something_wrong_in_them(self):
+        good = 0
+        for seed in range(SEEDS):
+            dice = Dice(seed)
+            source = mutated(dice, grown_program(dice, 2))
+            good += len(source) <= 600 and self.compare(source) != [-2]
+        self.assertTrue(SEEDS // 10 < good < SEEDS - SEEDS // 10, good)
+
+
+if __name__ == "__main__":
+    unittest.main()
