@@ -1,7 +1,7 @@
 """The calls: each takes a cell's text and answers a list of whole numbers."""
 
 from cellnames.cells import good_cell, sound_cell
-from cellnames.scopes import OUTERMOST_BLOCK
+from cellnames.scopes import FREE, OUTERMOST_BLOCK
 
 
 def faults(text):
@@ -26,5 +26,32 @@ def made(text):
     return answer
 
 
+def reads(text):
+    cell = sound_cell(text)
+    if cell.refusal < 0:
+        return [cell.refusal]
+    return told_sorted([use.name for use in cell.walk.uses if use.bound == FREE])
+
+
+def bindings(text):
+    cell = sound_cell(text)
+    if cell.refusal < 0:
+        return [cell.refusal]
+    answer = [len(cell.walk.places)]
+    for place in cell.walk.places:
+        outermost = 1 if place.home == OUTERMOST_BLOCK else 0
+        answer.extend([place.kind, place.level, outermost, place.used])
+        answer.extend(told_name(place.name))
+    return answer
+
+
 def told_name(name):
     return [len(name)] + list(name)
+
+
+def told_sorted(names):
+    once = sorted(set(names))
+    answer = [len(once)]
+    for name in once:
+        answer.extend(told_name(name))
+    return answer

@@ -60,6 +60,14 @@ def made(source):
     return answer(names.made, source)
 
 
+def reads(source):
+    return answer(names.reads, source)
+
+
+def bindings(source):
+    return answer(names.bindings, source)
+
+
 def pairs(source):
     """The pairs that faults answers, as tuples."""
     numbers = faults(source)
@@ -71,15 +79,17 @@ def pairs(source):
 def is_good(source):
     """Whether the text is good, asked from each call: each must be of the same mind."""
     found = faults(source)
+    others = [call(source) for call in (made, reads, bindings)]
     if found == NOT_GOOD:
-        if made(source) != NOT_GOOD:
-            raise AssertionError("made takes a text that faults doesn't")
+        if others != [NOT_GOOD] * 3:
+            raise AssertionError(f"faults refuses, the others answer {others!r}")
         return False
     if found[0] < 0:
         raise AssertionError(f"refused by {found!r}")
-    sound = found == [0]
-    if (made(source) == NOT_SOUND) == sound or made(source) == NOT_GOOD:
-        raise AssertionError("made and faults aren't of the same mind")
+    if found != [0] and others != [NOT_SOUND] * 3:
+        raise AssertionError(f"faults answers {found!r}, the others {others!r}")
+    if found == [0] and any(one[0] < 0 for one in others):
+        raise AssertionError(f"faults answers {found!r}, the others {others!r}")
     return True
 
 

@@ -93,7 +93,11 @@ class Statements(unittest.TestCase):
             self.assertFalse(is_good("show fn () { " + source + " };"), source)
 
     def test_a_form_that_breaks_off_is_not_good(self):
-        for source in ("let a = [1];", "if 1 { show 1; } else { show 2; }", "show fn f(a, b) { give a; };"):
+        for source in (
+            "let a = [1];", "if 1 { show 1; } else { show 2; }", "show fn f(a, b) { give a; };", "show (a: 1, b: (c));",
+            "for a in b[1].c {}", "slider a = -1 in -1, 2;", 'choice a = 0 in "a", "b";', "set a = not -b ? c(1) : (:);",
+            "while cut(a, b, c) == len(d) {}",
+        ):
             whole = source.replace(" else { show 2; }", "")
             for end in range(1, len(source)):
                 if source[:end].rstrip() != whole:
@@ -114,6 +118,14 @@ class Expressions(unittest.TestCase):
                 "show fn () { give @; };", "show (@) ? (@) : (@);", "show -(@);", "show not (@);",
             ):
                 self.assertTrue(is_good(around.replace("@", source)), (around, source))
+
+    def test_no_two_comparisons_without_brackets(self):
+        signs = ("==", "!=", "<", "<=", ">", ">=")
+        for first in signs:
+            for second in signs:
+                self.assertFalse(is_good(f"show a {first} b {second} c;"), (first, second))
+                self.assertTrue(is_good(f"show (a {first} b) {second} c;"), (first, second))
+                self.assertTrue(is_good(f"show a {first} (b {second} c);"), (first, second))
 
     def test_no_other_form_is_good(self):
         for source in NO_EXPRESSIONS:
@@ -152,6 +164,10 @@ class Brackets(unittest.TestCase):
         self.assertFalse(is_good("show " + "(" * 24 + "1" + ")" * 24 + " + " + "[" * 25 + "]" * 25 + ";"))
         self.assertFalse(is_good("show " + "(" * 23 + "(1) + ((2))" + ")" * 23 + ";"))
         self.assertTrue(is_good("show " + "(" * 22 + "(1) + ((2))" + ")" * 22 + ";"))
+
+    def test_any_number_of_pairs_side_by_side(self):
+        for source in ("if 1 {}" * 60, "do f();" * 60, "do [];" * 60, "do fn () {};" * 40, "do (1);" * 60, "do a[1];" * 60):
+            self.assertTrue(is_good(source), source)
 
     def test_many_more_opening_than_closing_ones(self):
         for source in ("(" * 600, "[" * 595, "show " + "(" * 590, "{" * 600, "do fn(){" * 75, "if 1{" * 120, "f(" * 300):
@@ -195,6 +211,20 @@ class Depth(unittest.TestCase):
         self.assertFalse(is_good("show a" + "+b" * 38 + "++a;"))
         self.assertTrue(is_good("show a" + " and b" * 37 + " or a" + " and b" * 37 + ";"))
         self.assertFalse(is_good("show a" + " or b" * 38 + " or a and b;"))
+
+    def test_each_two_signs_by_their_strengths(self):
+        lines = ((" or ",), (" and ",), ("++",), ("+", "-"), ("*", "/", "%"))
+        signs = [(strength, sign) for strength, line in enumerate(lines) for sign in line]
+        for weak, first in signs:
+            for strong, second in signs:
+                run = (second + "b") * 37
+                if weak < strong:
+                    self.assertTrue(is_good("show a" + run + first + "a" + run + ";"), (first, second))
+                    self.assertFalse(is_good("show a" + run + second + "b" + first + "a;"), (first, second))
+                    self.assertFalse(is_good("show a" + first + "a" + run + second + "b;"), (first, second))
+                if weak == strong:
+                    self.assertTrue(is_good("show a" + (first + "b" + second + "b") * 19 + ";"), (first, second))
+                    self.assertFalse(is_good("show a" + (first + "b" + second + "b") * 19 + first + "b;"), (first, second))
 
     def test_each_expression_adds_one(self):
         for around, added in (

@@ -344,21 +344,44 @@ def model_of(source):
         sys.setrecursionlimit(limit)
 
 
+CALLS = ("faults", "made", "reads", "bindings")
+
+
 def model_answers(source):
-    """What the model answers: of faults, then of the other calls by name."""
+    """What the model answers, by the calls' names."""
     try:
         model = model_of(source)
     except NotGood:
-        return {"faults": [-2], "made": [-2]}
+        return {call: [-2] for call in CALLS}
     found = model.faults()
-    faults = [len(found)] + [number for pair in found for number in pair]
-    if found:
-        return {"faults": faults, "made": [-3]}
+    answers = {call: [-3] for call in CALLS}
+    answers["faults"] = [len(found)] + [number for pair in found for number in pair]
+    if not found:
+        answers["made"] = model_made(model)
+        answers["reads"] = model_reads(model)
+        answers["bindings"] = model_bindings(model)
+    return answers
+
+
+def model_made(model):
     made = [one for one in model.places if one[5]]
-    made_answer = [len(made)]
+    answer = [len(made)]
     for place, kind, *others in made:
-        made_answer += [kind, model.statement(place)] + told(model.token(place))
-    return {"faults": faults, "made": made_answer}
+        answer += [kind, model.statement(place)] + told(model.token(place))
+    return answer
+
+
+def model_reads(model):
+    free = sorted({model.token(use) for use, bound, of_set in model.uses if bound == -1}, key=as_bytes)
+    return [len(free)] + [number for name in free for number in told(name)]
+
+
+def model_bindings(model):
+    answer = [len(model.places)]
+    for number, (place, kind, begin, end, block, outermost) in enumerate(model.places):
+        uses = sum(1 for use in model.uses if use[1] == number)
+        answer += [kind, model.level(place), outermost, uses] + told(model.token(place))
+    return answer
 
 
 # ---- texts to ask about

@@ -5,6 +5,7 @@ import unittest
 from helper import NOT_GOOD, TOO_LONG, as_bytes, faults, is_good, listed, made, padded
 
 from cellnames import names
+from cellnames.tokens import cut_tokens
 
 RESERVED = (
     "let set show table plot check slider choice if else while for in do give fn and or not "
@@ -197,6 +198,21 @@ class QuotedTexts(unittest.TestCase):
     def test_two_of_them_stand_side_by_side_as_two_tokens(self):
         self.assertFalse(is_good('show "a""b";'))
         self.assertTrue(is_good('show "a"++"b";'))
+
+
+class WhatTokensSay(unittest.TestCase):
+    """No call shows it yet but through the tree."""
+
+    def said(self, source):
+        return [token.value for token in cut_tokens(as_bytes(source))]
+
+    def test_quoted_texts(self):
+        self.assertEqual(self.said('"" "a" "# " "\\\\" "\\"" "\\n" "n\\nn"'),
+                         [(), (97,), (35, 32), (92,), (34,), (10,), (110, 10, 110)])
+
+    def test_names_and_numbers(self):
+        self.assertEqual(self.said("0 10 " + "9" * 30), [0, 10, 10 ** 30 - 1])
+        self.assertEqual(self.said("a _B9"), [(97,), (95, 66, 57)])
 
 
 class Signs(unittest.TestCase):
