@@ -202,6 +202,14 @@ class Depth(unittest.TestCase):
         self.assertFalse(is_good("show a.c.c" + "+b" * 37 + ";"))
         self.assertTrue(is_good("show a.c" + "+b" * 37 + ";"))
 
+    def test_behind_a_weaker_sign_they_are_too(self):
+        for weak, strong in (("+", "*"), ("-", "%"), ("++", "+"), ("++", "/"), (" or ", " and ")):
+            for links, good in ((35, True), (36, False)):
+                source = "show a" + weak + "b" + ".x" * links + strong + "c" + strong + "d;"
+                self.assertEqual(is_good(source), good, source)
+                source = "show a" + weak + "b" + strong + "c" + strong + "d" + ".x" * (links + 1) + ";"
+                self.assertEqual(is_good(source), good, source)
+
     def test_stronger_signs_are_joined_first(self):
         self.assertTrue(is_good("show a" + "+b" * 38 + ";"))
         self.assertTrue(is_good("show a+b*c" + "+b" * 36 + ";"))
