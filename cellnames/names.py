@@ -1,7 +1,9 @@
 """The calls: each takes a cell's text and answers a list of whole numbers."""
 
 from cellnames.cells import good_cell, sound_cell
-from cellnames.scopes import FREE, OUTERMOST_BLOCK
+from cellnames.scopes import FREE, OUTERMOST_BLOCK, captured_uses
+
+NO_SUCH = -4
 
 
 def faults(text):
@@ -43,6 +45,27 @@ def bindings(text):
         answer.extend([place.kind, place.level, outermost, place.used])
         answer.extend(told_name(place.name))
     return answer
+
+
+def uses(text):
+    cell = sound_cell(text)
+    if cell.refusal < 0:
+        return [cell.refusal]
+    answer = [len(cell.walk.uses)]
+    for use in cell.walk.uses:
+        answer.extend([use.bound, use.of_set, use.level])
+        answer.extend(told_name(use.name))
+    return answer
+
+
+def captured(k, text):
+    cell = sound_cell(text)
+    if cell.refusal < 0:
+        return [cell.refusal]
+    functions = cell.walk.functions
+    if not 0 <= k < len(functions):
+        return [NO_SUCH]
+    return told_sorted([use.name for use in captured_uses(cell.walk, functions[k])])
 
 
 def told_name(name):

@@ -46,12 +46,23 @@ class Visit:
         self.statement = statement
 
 
-# places, uses, visits: what was met, in the order of the text.
+# A function's binding places and uses, by their numbers: from the first on to before the end.
+# They follow one another without a gap, as the function's own text does.
+class FunctionSpan:
+    def __init__(self, first_place, first_use):
+        self.first_place = first_place
+        self.first_use = first_use
+        self.place_end = first_place
+        self.use_end = first_use
+
+
+# places, uses, functions, visits: what was met, in the order of the text.
 # holding: the numbers of the binding places that hold here, the last begun at the end.
 class Walk:
     def __init__(self):
         self.places = []
         self.uses = []
+        self.functions = []
         self.visits = []
         self.holding = []
         self.blocks_met = 1
@@ -95,6 +106,8 @@ def walk_for(walk, node, home):
 
 
 def walk_function(walk, node):
+    span = FunctionSpan(len(walk.places), len(walk.uses))
+    walk.functions.append(span)
     block = new_block(walk)
     walk.level += 1
     numbers = []
@@ -104,6 +117,8 @@ def walk_function(walk, node):
         numbers.append(add_place(walk, PARAMETER, name, block))
     walk_block(walk, node.blocks[0], block, numbers)
     walk.level -= 1
+    span.place_end = len(walk.places)
+    span.use_end = len(walk.uses)
 
 
 def walk_other(walk, node, home):
@@ -152,3 +167,8 @@ def nearest(walk, name):
         if walk.places[number].name == name:
             return number
     return FREE
+
+
+def captured_uses(walk, span):
+    uses = walk.uses[span.first_use:span.use_end]
+    return [use for use in uses if not span.first_place <= use.bound < span.place_end]

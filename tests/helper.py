@@ -5,6 +5,7 @@ from cellnames import names
 TOO_LONG = [-1]
 NOT_GOOD = [-2]
 NOT_SOUND = [-3]
+NO_SUCH = [-4]
 
 
 def as_bytes(source):
@@ -68,6 +69,14 @@ def bindings(source):
     return answer(names.bindings, source)
 
 
+def uses(source):
+    return answer(names.uses, source)
+
+
+def captured(k, source):
+    return answer(names.captured, k, source)
+
+
 def pairs(source):
     """The pairs that faults answers, as tuples."""
     numbers = faults(source)
@@ -79,14 +88,16 @@ def pairs(source):
 def is_good(source):
     """Whether the text is good, asked from each call: each must be of the same mind."""
     found = faults(source)
-    others = [call(source) for call in (made, reads, bindings)]
+    others = [call(source) for call in (made, reads, bindings, uses)]
+    if others[0][0] < 0:
+        others.append(captured(0, source))
     if found == NOT_GOOD:
-        if others != [NOT_GOOD] * 3:
+        if others != [NOT_GOOD] * 5:
             raise AssertionError(f"faults refuses, the others answer {others!r}")
         return False
     if found[0] < 0:
         raise AssertionError(f"refused by {found!r}")
-    if found != [0] and others != [NOT_SOUND] * 3:
+    if found != [0] and others != [NOT_SOUND] * 5:
         raise AssertionError(f"faults answers {found!r}, the others {others!r}")
     if found == [0] and any(one[0] < 0 for one in others):
         raise AssertionError(f"faults answers {found!r}, the others {others!r}")

@@ -224,7 +224,9 @@ class Refusals(unittest.TestCase):
 class NothingKept(unittest.TestCase):
     def test_calls_do_not_know_of_one_another(self):
         sources = ("let a = 1; show a;", "show a;", "show fn (a) { give a + b; };", "give 1;", "", "$", " " * 601)
-        calls = (names.faults, names.made, names.reads, names.bindings)
+        calls = (
+            names.faults, names.made, names.reads, names.bindings, names.uses, lambda text: names.captured(0, text),
+        )
         alone = [[call(as_bytes(one)) for call in calls] for one in sources]
         for first in range(len(sources)):
             for second in range(len(sources)):

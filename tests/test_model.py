@@ -334,6 +334,11 @@ def told(name):
     return [len(name)] + as_bytes(name)
 
 
+def told_sorted(found):
+    in_order = sorted(found, key=as_bytes)
+    return [len(in_order)] + [number for name in in_order for number in told(name)]
+
+
 def model_of(source):
     """The model calls itself deeply; the calls under test have to do with what Python allows."""
     limit = sys.getrecursionlimit()
@@ -344,23 +349,25 @@ def model_of(source):
         sys.setrecursionlimit(limit)
 
 
-CALLS = ("faults", "made", "reads", "bindings")
+CALLS = ("faults", "made", "reads", "bindings", "uses")
 
 
 def model_answers(source):
-    """What the model answers, by the calls' names."""
+    """What the model answers, by the calls' names; of captured by its k."""
     try:
         model = model_of(source)
     except NotGood:
-        return {call: [-2] for call in CALLS}
+        return {call: [-2] for call in CALLS}, {0: [-2]}
     found = model.faults()
     answers = {call: [-3] for call in CALLS}
     answers["faults"] = [len(found)] + [number for pair in found for number in pair]
-    if not found:
-        answers["made"] = model_made(model)
-        answers["reads"] = model_reads(model)
-        answers["bindings"] = model_bindings(model)
-    return answers
+    if found:
+        return answers, {0: [-3]}
+    answers["made"] = model_made(model)
+    answers["reads"] = model_reads(model)
+    answers["bindings"] = model_bindings(model)
+    answers["uses"] = model_uses(model)
+    return answers, model_captured(model)
 
 
 def model_made(model):
@@ -372,8 +379,7 @@ def model_made(model):
 
 
 def model_reads(model):
-    free = sorted({model.token(use) for use, bound, of_set in model.uses if bound == -1}, key=as_bytes)
-    return [len(free)] + [number for name in free for number in told(name)]
+    return told_sorted({model.token(use) for use, bound, of_set in model.uses if bound == -1})
 
 
 def model_bindings(model):
@@ -382,6 +388,23 @@ def model_bindings(model):
         uses = sum(1 for use in model.uses if use[1] == number)
         answer += [kind, model.level(place), outermost, uses] + told(model.token(place))
     return answer
+
+
+def model_uses(model):
+    answer = [len(model.uses)]
+    for use, bound, of_set in model.uses:
+        answer += [bound, of_set, model.level(use)] + told(model.token(use))
+    return answer
+
+
+def model_captured(model):
+    functions = sorted(model.functions, key=lambda one: one.start)
+    answers = {-1: [-4], len(functions): [-4]}
+    for k, function in enumerate(functions):
+        own = [number for number, one in enumerate(model.places) if function.start < one[0] < function.end]
+        within = [one for one in model.uses if function.start < one[0] < function.end]
+        answers[k] = told_sorted({model.token(use) for use, bound, of_set in within if bound not in own})
+    return answers
 
 
 # ---- texts to ask about
@@ -460,9 +483,12 @@ def mutated(dice, source):
 
 class AgainstTheModel(unittest.TestCase):
     def compare(self, source):
-        expected = model_answers(source)
+        text = as_bytes(source)
+        expected, captured = model_answers(source)
         for name, answer in expected.items():
-            self.assertEqual(getattr(names, name)(as_bytes(source)), answer, (name, source))
+            self.assertEqual(getattr(names, name)(text), answer, (name, source))
+        for k, answer in captured.items():
+            self.assertEqual(names.captured(k, text), answer, (k, source))
         return expected["faults"]
 
     def test_programs_grown_from_the_grammar(self):
