@@ -13,12 +13,14 @@ OUTERMOST_BLOCK = 0
 FREE = -1
 
 
+# node: the node in which the name is written.
 # home: the number of the block in which it holds. It is the outermost block for outermost
 #   lets, sliders and choices alone, as the other places hold in a block of their own statement.
 # statement: the number of the outermost statement in which it stands.
 # used: how many uses are bound to it.
 class BindingPlace:
-    def __init__(self, kind, name, level, home, statement):
+    def __init__(self, node, kind, name, level, home, statement):
+        self.node = node
         self.kind = kind
         self.name = name
         self.level = level
@@ -27,14 +29,16 @@ class BindingPlace:
         self.used = 0
 
 
+# node: the node in which the name is written.
 # bound: the number of the binding place that it's bound to, or FREE.
 # of_set: 1 if it's the name of a set, else 0.
 class Use:
-    def __init__(self, bound, of_set, level, name, statement):
+    def __init__(self, node, bound, of_set, level, statement):
+        self.node = node
         self.bound = bound
         self.of_set = of_set
         self.level = level
-        self.name = name
+        self.name = node.name
         self.statement = statement
 
 
@@ -93,14 +97,14 @@ def walk_node(walk, node, home):
 
 
 def walk_making(walk, node, home):
-    number = add_place(walk, MAKING[node.kind], node.name, home)
+    number = add_place(walk, node, MAKING[node.kind], node.name, home)
     walk_parts(walk, node, home)
     walk.holding.append(number)
 
 
 def walk_for(walk, node, home):
     block = new_block(walk)
-    number = add_place(walk, FOR, node.name, block)
+    number = add_place(walk, node, FOR, node.name, block)
     walk_parts(walk, node, home)
     walk_block(walk, node.blocks[0], block, [number])
 
@@ -112,9 +116,9 @@ def walk_function(walk, node):
     walk.level += 1
     numbers = []
     if node.name is not None:
-        numbers.append(add_place(walk, OWN_NAME, node.name, block))
+        numbers.append(add_place(walk, node, OWN_NAME, node.name, block))
     for name in node.names:
-        numbers.append(add_place(walk, PARAMETER, name, block))
+        numbers.append(add_place(walk, node, PARAMETER, name, block))
     walk_block(walk, node.blocks[0], block, numbers)
     walk.level -= 1
     span.place_end = len(walk.places)
@@ -148,8 +152,8 @@ def new_block(walk):
     return walk.blocks_met - 1
 
 
-def add_place(walk, kind, name, home):
-    walk.places.append(BindingPlace(kind, name, walk.level, home, walk.statement))
+def add_place(walk, node, kind, name, home):
+    walk.places.append(BindingPlace(node, kind, name, walk.level, home, walk.statement))
     return len(walk.places) - 1
 
 
@@ -159,7 +163,7 @@ def add_use(walk, node):
         place = walk.places[bound]
         place.used += 1
     of_set = 1 if node.kind == "set" else 0
-    walk.uses.append(Use(bound, of_set, walk.level, node.name, walk.statement))
+    walk.uses.append(Use(node, bound, of_set, walk.level, walk.statement))
 
 
 def nearest(walk, name):

@@ -50,6 +50,19 @@ def begins_word(byte):
     return 65 <= byte <= 90 or 97 <= byte <= 122 or byte == 95
 
 
+def continues_word(byte):
+    return begins_word(byte) or is_digit(byte)
+
+
+# Whether the bytes are one word that isn't reserved, and nothing else.
+def is_name(word):
+    if not 1 <= len(word) <= MOST_WORD_BYTES or not begins_word(word[0]):
+        return False
+    if not all([continues_word(byte) for byte in word]):
+        return False
+    return tuple(word) not in [spelled(one) for one in RESERVED]
+
+
 def comment_end(text, start):
     place = start
     while place < len(text) and text[place] != 10:
@@ -59,7 +72,7 @@ def comment_end(text, start):
 
 def word_token(text, start, reserved):
     end = start
-    while end < len(text) and (begins_word(text[end]) or is_digit(text[end])):
+    while end < len(text) and continues_word(text[end]):
         end += 1
     if end - start > MOST_WORD_BYTES:
         raise NotGood()

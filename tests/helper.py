@@ -6,6 +6,9 @@ TOO_LONG = [-1]
 NOT_GOOD = [-2]
 NOT_SOUND = [-3]
 NO_SUCH = [-4]
+NO_NEW_NAME = [-5]
+BOUND_ANEW = [-6]
+FORM_TOO_LONG = [-7]
 
 
 def as_bytes(source):
@@ -77,6 +80,29 @@ def captured(k, source):
     return answer(names.captured, k, source)
 
 
+def rename(source, old, new):
+    return answer(names.rename, source, old, new)
+
+
+def local(k, source, new):
+    return answer(names.local, k, source, new)
+
+
+def form(source):
+    """The one form, by a change of names that stand behind all else; both calls must tell the same."""
+    tail = "\nshow zx + fn (zy) {};"
+    found = rename(source + tail.replace("zx", "zz"), "zz", "zx")
+    other = local(bindings(source)[0], source + tail.replace("zy", "zz"), "zy")
+    if found != other or found[0] != len(found) - 1:
+        raise AssertionError(f"rename answers {found!r}, local {other!r}: {source}")
+    whole = bytes(found[1:]).decode("ascii")
+    if whole == tail[1:]:
+        return ""
+    if not whole.endswith(tail):
+        raise AssertionError(whole)
+    return whole[:-len(tail)]
+
+
 def pairs(source):
     """The pairs that faults answers, as tuples."""
     numbers = faults(source)
@@ -90,14 +116,14 @@ def is_good(source):
     found = faults(source)
     others = [call(source) for call in (made, reads, bindings, uses)]
     if others[0][0] < 0:
-        others.append(captured(0, source))
+        others.extend([captured(0, source), rename(source, "", ""), local(0, source, "")])
     if found == NOT_GOOD:
-        if others != [NOT_GOOD] * 5:
+        if others != [NOT_GOOD] * 7:
             raise AssertionError(f"faults refuses, the others answer {others!r}")
         return False
     if found[0] < 0:
         raise AssertionError(f"refused by {found!r}")
-    if found != [0] and others != [NOT_SOUND] * 5:
+    if found != [0] and others != [NOT_SOUND] * 7:
         raise AssertionError(f"faults answers {found!r}, the others {others!r}")
     if found == [0] and any(one[0] < 0 for one in others):
         raise AssertionError(f"faults answers {found!r}, the others {others!r}")

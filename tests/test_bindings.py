@@ -226,6 +226,7 @@ class NothingKept(unittest.TestCase):
         sources = ("let a = 1; show a;", "show a;", "show fn (a) { give a + b; };", "give 1;", "", "$", " " * 601)
         calls = (
             names.faults, names.made, names.reads, names.bindings, names.uses, lambda text: names.captured(0, text),
+            lambda text: names.rename(text, [97], [98]), lambda text: names.local(0, text, [99]),
         )
         alone = [[call(as_bytes(one)) for call in calls] for one in sources]
         for first in range(len(sources)):

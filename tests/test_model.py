@@ -206,6 +206,15 @@ class Model:
     def token(self, place):
         return self.tokens[place][1]
 
+    def is_record(self, piece):
+        return piece.line == "SIMPLE" and self.first(piece) == "(" and (
+            self.token(piece.start + 1) == ":" or self.tokens[piece.start + 1][0] == "NAME"
+            and self.token(piece.start + 2) == ":"
+        )
+
+    def is_bracketed(self, piece):
+        return piece.line == "SIMPLE" and self.first(piece) == "(" and not self.is_record(piece)
+
     def all_pieces(self, piece):
         yield piece
         for one in piece.inner:
@@ -222,7 +231,7 @@ class Model:
             return deep
         if piece.line in ("LISTED", "BLOCK"):
             return max(inner, default=0)
-        if piece.line == "SIMPLE" and len(inner) == 1 and self.first(piece) == "(" and self.token(piece.start + 2) != ":":
+        if self.is_bracketed(piece):
             return inner[0]
         if piece.line in ("E", "COMPARED") and len(inner) == 1:
             return inner[0]
@@ -316,7 +325,7 @@ class Model:
 
     def fault_by_itself(self, piece):
         first = self.first(piece)
-        if piece.line == "SIMPLE" and first == "(" and self.token(piece.start + 2) == ":":
+        if self.is_record(piece):
             fields = [self.token(one.start - 2) for one in piece.inner]
             return 3 if len(set(fields)) < len(fields) else 0
         if piece.line == "STATEMENT" and first == "give" and self.level(piece.start) == 0:
@@ -330,6 +339,119 @@ class Model:
         return 0
 
 
+    def form(self):
+        return "\n".join(self.statement_form(one) for one in self.program.inner)
+
+    def statement_form(self, piece):
+        first = self.first(piece)
+        name = self.token(piece.start + 1)
+        if first == "slider":
+            numbers = [str(int("".join(self.token(place) for place in range(one.start, one.end)))) for one in piece.inner]
+            return f"slider {name} = {numbers[0]} in {numbers[1]}, {numbers[2]};"
+        if first == "choice":
+            quoted = [token for kind, token in self.tokens[piece.start:piece.end] if kind == "QUOTED"]
+            return f"choice {name} = {self.token(piece.start + 3)} in {', '.join(quoted)};"
+        head = {"let": f"let {name} = ", "set": f"set {name} = ", "for": f"for {name} in "}.get(first, first + " ")
+        blocks = [self.block_form(one) for one in piece.inner[1:]]
+        return head + self.wanted(piece.inner[0], 0) + (" " + " else ".join(blocks) if blocks else ";")
+
+    def block_form(self, piece):
+        return "{ " + " ".join(self.statement_form(one) for one in piece.inner) + " }" if piece.inner else "{}"
+
+    def wanted(self, piece, strength):
+        return bracketed(self.own_form(piece), strength)
+
+    def own_form(self, piece):
+        """The strength and the form that the document tells for what the piece is."""
+        inner = piece.inner
+        if piece.line == "SIMPLE":
+            return self.simple_form(piece)
+        if piece.line == "REACHED":
+            return self.reached_form(piece)
+        if piece.line == "E" and len(inner) == 3:
+            return 0, " : ".join([" ? ".join(self.wanted(one, 1) for one in inner[:2]), self.wanted(inner[2], 1)])
+        if piece.line == "NOT" and self.first(piece) == "not":
+            return 3, "not " + self.wanted(inner[0], 4)
+        if piece.line == "SIGNED" and self.first(piece) == "-":
+            return 8, "-" + self.wanted(inner[0], 9)
+        found = self.own_form(inner[0])
+        for one in inner[1:]:
+            strength, left, right = {
+                "OR": (1, 1, 2), "AND": (2, 2, 3), "COMPARED": (4, 5, 5), "JOINED": (5, 5, 6), "SUM": (6, 6, 7),
+                "PRODUCT": (7, 7, 8),
+            }[piece.line]
+            found = strength, f"{bracketed(found, left)} {self.token(one.start - 1)} {self.wanted(one, right)}"
+        return found
+
+    def reached_form(self, piece):
+        inner = {one.start: one for one in piece.inner}
+        found = self.own_form(piece.inner[0])
+        place = piece.inner[0].end
+        while place < piece.end:
+            if self.token(place) == ".":
+                behind = "." + self.token(place + 1)
+                place += 2
+            else:
+                one = inner[place + 1]
+                parts = one.inner if one.line == "LISTED" else [one]
+                listed = ", ".join(self.wanted(part, 0) for part in parts)
+                behind = self.token(place) + listed + self.token(one.end)
+                place = one.end + 1
+            found = 9, bracketed(found, 9) + behind
+        return found
+
+    def simple_form(self, piece):
+        if self.is_bracketed(piece):
+            return self.own_form(piece.inner[0])
+        kind, token = self.tokens[piece.start]
+        if token == "fn" and kind == "SIGN":
+            names = [name for kind, name in self.tokens[piece.start + 1:piece.inner[-1].start] if kind == "NAME"]
+            own = names.pop(0) if self.tokens[piece.start + 1][0] == "NAME" else ""
+            return 10, f"fn {own}({', '.join(names)}) {self.block_form(piece.inner[-1])}"
+        text = "".join(token for kind, token in self.tokens[piece.start:piece.end])
+        if piece.inner:
+            parts = piece.inner[0].inner if piece.inner[0].line == "LISTED" else piece.inner
+            fields = [self.token(one.start - 2) + ": " if self.is_record(piece) else "" for one in parts]
+            listed = ", ".join(field + self.wanted(one, 0) for field, one in zip(fields, parts))
+            text = (token if token in "[(" else token + "(") + listed + self.token(piece.end - 1)
+        return 10, text
+
+    def changed(self, tokens, new):
+        """The answer for a change of the name at these tokens, once the name itself is allowed."""
+        after = model_of(" ".join(new if place in tokens else self.token(place) for place in range(len(self.tokens))))
+        if after.faults() or [one[1] for one in after.uses] != [one[1] for one in self.uses]:
+            return [-6]
+        form = with_room(after.form)
+        return told(form) if len(form) <= 600 else [-7]
+
+    def rename(self, old, new):
+        outer = [number for number, one in enumerate(self.places) if one[5]]
+        made = [self.places[number][0] for number in outer]
+        read = [use for use, bound, of_set in self.uses if bound == -1]
+        known = [self.token(place) for place in made + read]
+        if old not in known:
+            return [-4]
+        if not is_name(new) or new in known:
+            return [-5]
+        uses = [use for use, bound, of_set in self.uses if bound == -1 or bound in outer]
+        return self.changed([place for place in made + uses if self.token(place) == old], new)
+
+    def local(self, k, new):
+        if not 0 <= k < len(self.places) or self.places[k][5]:
+            return [-4]
+        if not is_name(new):
+            return [-5]
+        return self.changed([self.places[k][0]] + [use for use, bound, of_set in self.uses if bound == k], new)
+
+
+def bracketed(found, wanted):
+    return f"({found[1]})" if found[0] < wanted else found[1]
+
+
+def is_name(word):
+    return bool(re.fullmatch("[A-Za-z_][A-Za-z0-9_]{0,15}", word)) and word not in RESERVED
+
+
 def told(name):
     return [len(name)] + as_bytes(name)
 
@@ -339,14 +461,18 @@ def told_sorted(found):
     return [len(in_order)] + [number for name in in_order for number in told(name)]
 
 
-def model_of(source):
+def with_room(call, *handed):
     """The model calls itself deeply; the calls under test have to do with what Python allows."""
     limit = sys.getrecursionlimit()
     sys.setrecursionlimit(20000)
     try:
-        return Model(source)
+        return call(*handed)
     finally:
         sys.setrecursionlimit(limit)
+
+
+def model_of(source):
+    return with_room(Model, source)
 
 
 CALLS = ("faults", "made", "reads", "bindings", "uses")
@@ -481,6 +607,20 @@ def mutated(dice, source):
     return source
 
 
+def grown_expression(dice, room):
+    """Signs and words of each strength, with brackets that are needed, and with ones that aren't."""
+    if room == 0 or dice.below(6) == 0:
+        return dice.one_of(["a", "b", "1", '"#"', "none", "[]", "(:)", "fn () {}"])
+    shape = dice.one_of([
+        "@ ? @ : @", "@ or @", "@ and @", "not @", "@ == @", "@ >= @", "@ ++ @", "@ + @", "@ - @", "@ * @", "@ % @", "-@",
+        "@(@)", "@[@]", "@.a", "[@, @]", "(a: @, b: @)", "len(@)", "fn (a) { give @; }",
+    ])
+    while "@" in shape:
+        inner = grown_expression(dice, room - 1)
+        shape = shape.replace("@", f"({inner})" if dice.below(4) else inner, 1)
+    return shape
+
+
 class AgainstTheModel(unittest.TestCase):
     def compare(self, source):
         text = as_bytes(source)
@@ -507,6 +647,47 @@ class AgainstTheModel(unittest.TestCase):
             source = mutated(dice, grown_program(dice, 2))
             good += len(source) <= 600 and self.compare(source) != [-2]
         self.assertTrue(SEEDS // 10 < good < SEEDS - SEEDS // 10, good)
+
+    def sound_models(self):
+        for seed in range(SEEDS):
+            dice = Dice(seed)
+            source = grown_program(dice, 3)
+            if len(source) <= 600 and names.reads(as_bytes(source)) != [-3]:
+                yield dice, source, model_of(source)
+
+    def test_names_changed(self):
+        seen = {}
+        for dice, source, model in self.sound_models():
+            text = as_bytes(source)
+            for old in "abc":
+                new = dice.one_of(["a", "b", "c", "d", "D" * 16, "D" * 17])
+                expected = model.rename(old, new)
+                self.assertEqual(names.rename(text, as_bytes(old), as_bytes(new)), expected, (old, new, source))
+                seen["rename", min(expected[0], 0)] = seen.get(("rename", min(expected[0], 0)), 0) + 1
+            for k in range(-1, len(model.places) + 1):
+                new = dice.one_of(["a", "b", "c", "d", "if"])
+                expected = model.local(k, new)
+                self.assertEqual(names.local(k, text, as_bytes(new)), expected, (k, new, source))
+                seen["local", min(expected[0], 0)] = seen.get(("local", min(expected[0], 0)), 0) + 1
+        for call in ("rename", "local"):
+            for answer in (0, -4, -5, -6):
+                self.assertGreater(seen.get((call, answer), 0), 2, (call, answer, seen))
+
+    def test_forms_of_expressions(self):
+        compared = 0
+        for seed in range(SEEDS):
+            source = f"show {grown_expression(Dice(seed), 4)};\nshow zz;"
+            try:
+                expected = model_of(source).rename("zz", "zy") if len(source) <= 600 else [-1]
+            except NotGood:
+                expected = [-2]
+            self.assertEqual(names.rename(as_bytes(source), as_bytes("zz"), as_bytes("zy")), expected, source)
+            if expected[0] > 0:
+                form = bytes(expected[1:]).decode("ascii")
+                self.assertEqual(names.rename(expected[1:], as_bytes("zy"), as_bytes("zz")),
+                                 expected[:-2] + as_bytes("z;"), form)
+                compared += 1
+        self.assertGreater(compared, SEEDS // 4)
 
 
 if __name__ == "__main__":
