@@ -7,17 +7,22 @@
 # blocks: its blocks, each a list of statements. They stand behind the parts in the text.
 # name: of let, set, for, slider, choice, "name" and "field"; a function's own, None without.
 # names: a function's parameters, or a record's field names, one for each of its parts.
+#   parts, blocks and names are empty lists where None is given.
 # value: a number; the bytes that a quoted text says; a slider's three numbers; a choice's
 #   number and the tuple of what its quoted texts say.
 class Node:
-    def __init__(self, kind, parts=(), blocks=(), name=None, names=(), value=None):
+    def __init__(self, kind, parts=None, blocks=None, name=None, names=None, value=None):
         self.kind = kind
-        self.parts = parts
-        self.blocks = blocks
+        self.parts = given_or_empty(parts)
+        self.blocks = given_or_empty(blocks)
         self.name = name
-        self.names = names
+        self.names = given_or_empty(names)
         self.value = value
-        self.depth = 1 + deepest(parts, blocks)
+        self.depth = 1 + deepest(self.parts, self.blocks)
+
+
+def given_or_empty(given):
+    return [] if given is None else given
 
 
 # Each node keeps its depth, so that no chain, however long, has to be climbed down for it.

@@ -68,6 +68,13 @@ def is_plain(node, functions):
     return isinstance(node, ast.Constant) and isinstance(node.value, (int, str, type(None)))
 
 
+def is_plain_default(node):
+    """A whole number, a text, True, False or None, written out."""
+    if isinstance(node, ast.UnaryOp) and isinstance(node.op, ast.USub):
+        return isinstance(node.operand, ast.Constant) and type(node.operand.value) is int
+    return isinstance(node, ast.Constant) and type(node.value) in (int, str, bool, type(None))
+
+
 class Language(unittest.TestCase):
     path = FOLDER
 
@@ -148,6 +155,19 @@ class Language(unittest.TestCase):
                     self.assertFalse(arguments.vararg or arguments.kwarg or arguments.kwonlyargs or arguments.posonlyargs)
                     self.assertFalse(bound_in(node) & set(classes + drawn + dir(builtins)), node.name)
                     self.assertIsNone(ast.get_docstring(node))
+
+    def test_defaults(self):
+        for path, tree in self.each():
+            for node in ast.walk(tree):
+                if isinstance(node, (ast.FunctionDef, ast.Lambda)):
+                    for default in node.args.defaults + node.args.kw_defaults:
+                        self.assertTrue(is_plain_default(default), default.lineno)
+
+    def test_what_counts_as_a_default(self):
+        for source in ("0", "-1", "10", "''", "'a'", "True", "False", "None"):
+            self.assertTrue(is_plain_default(ast.parse(source, mode="eval").body), source)
+        for source in ("()", "(1,)", "[]", "[1]", "{}", "{1: 2}", "{1}", "1.5", "b''", "...", "a", "a.b", "f()", "1 + 1", "not a"):
+            self.assertFalse(is_plain_default(ast.parse(source, mode="eval").body), source)
 
     def test_classes(self):
         methods, values = set(), set()
