@@ -38,3 +38,13 @@ def sound_cell(text):
     if cell.refusal == 0 and len(cell.pairs) > 0:
         return Cell(NOT_SOUND)
     return cell
+
+
+# The refusal of a call that takes several texts, 0 if none of them is refused: what one of them
+# is refused for comes before what another would be refused for later.
+def first_refusal(cells):
+    refusals = [cell.refusal for cell in cells]
+    for refusal in (TOO_LONG, NOT_GOOD, NOT_SOUND):
+        if refusal in refusals:
+            return refusal
+    return 0

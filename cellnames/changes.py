@@ -17,6 +17,10 @@ def is_outer(walk, use):
     return use.bound == FREE or walk.places[use.bound].home == OUTERMOST_BLOCK
 
 
+def uses_bound_to(walk, number):
+    return [use for use in walk.uses if use.bound == number]
+
+
 def made_or_read(walk, name):
     return len(outer_places(walk, name)) > 0 or len(outer_uses(walk, name)) > 0
 

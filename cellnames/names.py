@@ -1,14 +1,16 @@
-"""The calls: each takes a cell's text and answers a list of whole numbers."""
+"""The calls: each takes a cell's text, or two cells' texts, and answers a list of whole numbers."""
 
-from cellnames.cells import MOST_BYTES, good_cell, sound_cell
-from cellnames.changes import keeps_bindings, made_or_read, outer_places, outer_uses, write_name
+from cellnames.cells import MOST_BYTES, first_refusal, good_cell, sound_cell
+from cellnames.changes import keeps_bindings, made_or_read, outer_places, outer_uses, uses_bound_to, write_name
 from cellnames.forms import program_form
-from cellnames.scopes import FREE, OUTERMOST_BLOCK, captured_uses
+from cellnames.sameness import are_alike
+from cellnames.scopes import FREE, OUTERMOST_BLOCK, captured_uses, sets_across
 from cellnames.tokens import is_name
 
 NO_SUCH = -4
 NO_NEW_NAME = -5
 BOUND_ANEW = -6
+SET_PARTED = -6
 FORM_TOO_LONG = -7
 
 
@@ -97,8 +99,7 @@ def local(k, text, new):
     new_name = tuple(new)
     if not is_name(new_name):
         return [NO_NEW_NAME]
-    bound_there = [use for use in cell.walk.uses if use.bound == k]
-    return told_change(cell, [places[k]], bound_there, new_name)
+    return told_change(cell, [places[k]], uses_bound_to(cell.walk, k), new_name)
 
 
 def told_change(cell, places, changed_uses, new_name):
@@ -109,6 +110,26 @@ def told_change(cell, places, changed_uses, new_name):
     if len(form) > MOST_BYTES:
         return [FORM_TOO_LONG]
     return counted(form)
+
+
+def alike(a, b):
+    first = sound_cell(a)
+    second = sound_cell(b)
+    refusal = first_refusal([first, second])
+    if refusal < 0:
+        return [refusal]
+    return [1 if are_alike(first, second) else 0]
+
+
+def split(k, text):
+    cell = sound_cell(text)
+    if cell.refusal < 0:
+        return [cell.refusal]
+    if not 0 <= k <= len(cell.statements):
+        return [NO_SUCH]
+    if sets_across(cell.walk, k):
+        return [SET_PARTED]
+    return counted(program_form(cell.statements[:k])) + counted(program_form(cell.statements[k:]))
 
 
 def counted(given):

@@ -176,3 +176,10 @@ def nearest(walk, name):
 def captured_uses(walk, span):
     uses = walk.uses[span.first_use:span.use_end]
     return [use for use in uses if not span.first_place <= use.bound < span.place_end]
+
+
+# Whether, in a sound program, a set in an outermost statement from number k on is bound to a place
+# in one below k. That is an outermost let's: others that may be set hold in their statement alone.
+def sets_across(walk, k):
+    sets = [use for use in walk.uses if use.of_set == 1 and use.statement >= k]
+    return any([walk.places[use.bound].statement < k for use in sets])

@@ -8,6 +8,7 @@ NOT_SOUND = [-3]
 NO_SUCH = [-4]
 NO_NEW_NAME = [-5]
 BOUND_ANEW = [-6]
+SET_PARTED = [-6]
 FORM_TOO_LONG = [-7]
 
 
@@ -88,8 +89,23 @@ def local(k, source, new):
     return answer(names.local, k, source, new)
 
 
+def alike(first, second):
+    return answer(names.alike, first, second)
+
+
+def split(k, source):
+    return answer(names.split, k, source)
+
+
 def form(source):
-    """The one form, by a change of names that stand behind all else; both calls must tell the same."""
+    """The one form, by a change of names that stand behind all else, and by split; all must tell the same."""
+    changed = changed_form(source)
+    if split(0, source) != [0] + told(changed):
+        raise AssertionError(f"split tells another form than rename and local: {source}")
+    return changed
+
+
+def changed_form(source):
     tail = "\nshow zx + fn (zy) {};"
     found = rename(source + tail.replace("zx", "zz"), "zz", "zx")
     other = local(bindings(source)[0], source + tail.replace("zy", "zz"), "zy")
@@ -115,15 +131,16 @@ def is_good(source):
     """Whether the text is good, asked from each call: each must be of the same mind."""
     found = faults(source)
     others = [call(source) for call in (made, reads, bindings, uses)]
+    others.extend([alike(source, source), split(0, source)])
     if others[0][0] < 0:
         others.extend([captured(0, source), rename(source, "", ""), local(0, source, "")])
     if found == NOT_GOOD:
-        if others != [NOT_GOOD] * 7:
+        if others != [NOT_GOOD] * 9:
             raise AssertionError(f"faults refuses, the others answer {others!r}")
         return False
     if found[0] < 0:
         raise AssertionError(f"refused by {found!r}")
-    if found != [0] and others != [NOT_SOUND] * 7:
+    if found != [0] and others != [NOT_SOUND] * 9:
         raise AssertionError(f"faults answers {found!r}, the others {others!r}")
     if found == [0] and any(one[0] < 0 for one in others):
         raise AssertionError(f"faults answers {found!r}, the others {others!r}")

@@ -338,9 +338,11 @@ class Model:
             return 8 if not int(self.token(piece.start + 3)) < texts else 0
         return 0
 
-
     def form(self):
-        return "\n".join(self.statement_form(one) for one in self.program.inner)
+        return self.form_of(self.program.inner)
+
+    def form_of(self, statements):
+        return "\n".join(self.statement_form(one) for one in statements)
 
     def statement_form(self, piece):
         first = self.first(piece)
@@ -444,6 +446,29 @@ class Model:
         return self.changed([self.places[k][0]] + [use for use, bound, of_set in self.uses if bound == k], new)
 
 
+    def marked_form(self):
+        """The form with each name that holds within alone, and its uses, written as a mark and a number."""
+        within = [number for number, one in enumerate(self.places) if not one[5]]
+        marks = {self.places[number][0]: f"${number}" for number in within}
+        marks.update({use: f"${bound}" for use, bound, of_set in self.uses if bound in within})
+        kept = self.tokens
+        self.tokens = [("NAME", marks[place]) if place in marks else token for place, token in enumerate(kept)]
+        form = with_room(self.form)
+        self.tokens = kept
+        return form
+
+    def split(self, k):
+        if k < 0 or k > len(self.program.inner):
+            return [-4]
+        for use, bound, of_set in self.uses:
+            if of_set and self.statement(use) >= k:
+                place, kind, begin, end, block, outermost = self.places[bound]
+                if kind == 0 and outermost and self.statement(place) < k:
+                    return [-6]
+        first, second = self.program.inner[:k], self.program.inner[k:]
+        return told(with_room(self.form_of, first)) + told(with_room(self.form_of, second))
+
+
 def bracketed(found, wanted):
     return f"({found[1]})" if found[0] < wanted else found[1]
 
@@ -533,6 +558,17 @@ def model_captured(model):
     return answers
 
 
+def model_alike(model, other):
+    """Of a model whose text is sound, and another text of at most 600 bytes."""
+    try:
+        second = model_of(other)
+    except NotGood:
+        return [-2]
+    if second.faults():
+        return [-3]
+    return [1 if model.marked_form() == second.marked_form() else 0]
+
+
 # ---- texts to ask about
 
 class Dice:
@@ -607,6 +643,34 @@ def mutated(dice, source):
     return source
 
 
+def grown_sets(dice, most_statements, room):
+    """A program in which names are bound, set and read, at its outermost and in blocks."""
+    statements = []
+    for time in range(1 + dice.below(most_statements)):
+        shape = dice.one_of(["let @ = 1;", "let @ = @;", "set @ = @;", "set @ = 2;", "show @;"] + [
+            "if @ { $ }", "if 1 {} else { $ }", "while 1 { $ }", "for @ in @ { $ }", "do fn (@) { $ };",
+        ] * (room > 0))
+        while "@" in shape:
+            shape = shape.replace("@", dice.one_of(["a", "b"]), 1)
+        statements.append(shape.replace("$", grown_sets(dice, 2, room - 1)) if "$" in shape else shape)
+    return " ".join(statements)
+
+
+def renamed_somewhere(dice, model):
+    """The model's tokens in other gaps, with a name changed at a binding place and its uses, or at one token."""
+    tokens = [token for kind, token in model.tokens]
+    if model.places and dice.below(3):
+        number = dice.below(len(model.places))
+        changed = [model.places[number][0]] + [use for use, bound, of_set in model.uses if bound == number]
+    else:
+        found = [place for place, (kind, token) in enumerate(model.tokens) if kind == "NAME"]
+        changed = [dice.one_of(found)] if found else []
+    new = dice.one_of(["a", "b", "c", "d"])
+    for place in changed:
+        tokens[place] = new
+    return " ".join(tokens) if dice.below(2) else "\n".join(tokens)
+
+
 def grown_expression(dice, room):
     """Signs and words of each strength, with brackets that are needed, and with ones that aren't."""
     if room == 0 or dice.below(6) == 0:
@@ -672,6 +736,47 @@ class AgainstTheModel(unittest.TestCase):
         for call in ("rename", "local"):
             for answer in (0, -4, -5, -6):
                 self.assertGreater(seen.get((call, answer), 0), 2, (call, answer, seen))
+
+    def test_split_at_each_number(self):
+        seen = {}
+        for dice, source, model in self.sound_models():
+            self.compare_split(source, model, seen)
+        for seed in range(SEEDS):
+            source = "let a = 1; " + grown_sets(Dice(seed), 4, 2)
+            if len(source) <= 600 and names.reads(as_bytes(source)) != [-3]:
+                self.compare_split(source, model_of(source), seen)
+        for answer in (0, -4, -6):
+            self.assertGreater(seen.get(answer, 0), SEEDS // 10, seen)
+
+    def compare_split(self, source, model, seen):
+        for k in range(-1, len(model.program.inner) + 2):
+            expected = model.split(k)
+            self.assertEqual(names.split(k, as_bytes(source)), expected, (k, source))
+            seen[min(expected[0], 0)] = seen.get(min(expected[0], 0), 0) + 1
+
+    def test_alike_with_names_changed(self):
+        seen = {}
+        for dice, source, model in self.sound_models():
+            for time in range(4):
+                other = renamed_somewhere(dice, model)
+                expected = model_alike(model, other)
+                for first, second in ((source, other), (other, source)):
+                    self.assertEqual(names.alike(as_bytes(first), as_bytes(second)), expected, (first, second))
+                seen[expected[0]] = seen.get(expected[0], 0) + 1
+        for answer, least in ((0, SEEDS // 10), (1, SEEDS // 10), (-3, 2)):
+            self.assertGreater(seen.get(answer, 0), least, seen)
+
+    def test_alike_with_something_wrong(self):
+        seen = {}
+        for dice, source, model in self.sound_models():
+            other = mutated(dice, source)
+            if len(other) <= 600:
+                expected = model_alike(model, other)
+                for first, second in ((source, other), (other, source)):
+                    self.assertEqual(names.alike(as_bytes(first), as_bytes(second)), expected, (first, second))
+                seen[expected[0]] = seen.get(expected[0], 0) + 1
+        for answer in (0, 1, -2):
+            self.assertGreater(seen.get(answer, 0), 2, seen)
 
     def test_forms_of_expressions(self):
         compared = 0
