@@ -132,6 +132,13 @@ def split(k, text):
     return counted(program_form(cell.statements[:k])) + counted(program_form(cell.statements[k:]))
 
 
+def draws(text):
+    cell = sound_cell(text)
+    if cell.refusal < 0:
+        return [cell.refusal]
+    return [1 if any([visit.node.kind == "roll" for visit in cell.walk.visits]) else 0]
+
+
 def counted(given):
     return [len(given)] + list(given)
 

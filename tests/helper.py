@@ -97,6 +97,10 @@ def split(k, source):
     return answer(names.split, k, source)
 
 
+def draws(source):
+    return answer(names.draws, source)
+
+
 def form(source):
     """The one form, by a change of names that stand behind all else, and by split; all must tell the same."""
     changed = changed_form(source)
@@ -130,17 +134,17 @@ def pairs(source):
 def is_good(source):
     """Whether the text is good, asked from each call: each must be of the same mind."""
     found = faults(source)
-    others = [call(source) for call in (made, reads, bindings, uses)]
+    others = [call(source) for call in (made, reads, bindings, uses, draws)]
     others.extend([alike(source, source), split(0, source)])
     if others[0][0] < 0:
         others.extend([captured(0, source), rename(source, "", ""), local(0, source, "")])
     if found == NOT_GOOD:
-        if others != [NOT_GOOD] * 9:
+        if others != [NOT_GOOD] * 10:
             raise AssertionError(f"faults refuses, the others answer {others!r}")
         return False
     if found[0] < 0:
         raise AssertionError(f"refused by {found!r}")
-    if found != [0] and others != [NOT_SOUND] * 9:
+    if found != [0] and others != [NOT_SOUND] * 10:
         raise AssertionError(f"faults answers {found!r}, the others {others!r}")
     if found == [0] and any(one[0] < 0 for one in others):
         raise AssertionError(f"faults answers {found!r}, the others {others!r}")

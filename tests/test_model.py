@@ -500,7 +500,7 @@ def model_of(source):
     return with_room(Model, source)
 
 
-CALLS = ("faults", "made", "reads", "bindings", "uses")
+CALLS = ("faults", "made", "reads", "bindings", "uses", "draws")
 
 
 def model_answers(source):
@@ -518,6 +518,7 @@ def model_answers(source):
     answers["reads"] = model_reads(model)
     answers["bindings"] = model_bindings(model)
     answers["uses"] = model_uses(model)
+    answers["draws"] = [1 if ("SIGN", "roll") in model.tokens else 0]
     return answers, model_captured(model)
 
 
@@ -677,7 +678,7 @@ def grown_expression(dice, room):
         return dice.one_of(["a", "b", "1", '"#"', "none", "[]", "(:)", "fn () {}"])
     shape = dice.one_of([
         "@ ? @ : @", "@ or @", "@ and @", "not @", "@ == @", "@ >= @", "@ ++ @", "@ + @", "@ - @", "@ * @", "@ % @", "-@",
-        "@(@)", "@[@]", "@.a", "[@, @]", "(a: @, b: @)", "len(@)", "fn (a) { give @; }",
+        "@(@)", "@[@]", "@.a", "[@, @]", "(a: @, b: @)", "len(@)", "roll(@)", "fn (a) { give @; }",
     ])
     while "@" in shape:
         inner = grown_expression(dice, room - 1)
@@ -777,6 +778,16 @@ class AgainstTheModel(unittest.TestCase):
                 seen[expected[0]] = seen.get(expected[0], 0) + 1
         for answer in (0, 1, -2):
             self.assertGreater(seen.get(answer, 0), 2, seen)
+
+    def test_whether_expressions_draw(self):
+        seen = {}
+        for seed in range(SEEDS):
+            source = f"show {grown_expression(Dice(seed), 3)};"
+            if len(source) <= 600:
+                expected = model_answers(source)[0]["draws"]
+                self.assertEqual(names.draws(as_bytes(source)), expected, source)
+                seen[expected[0]] = seen.get(expected[0], 0) + 1
+        self.assertGreater(min(seen.get(0, 0), seen.get(1, 0)), SEEDS // 10, seen)
 
     def test_forms_of_expressions(self):
         compared = 0
